@@ -1,0 +1,39 @@
+// Package gavel: rules of who may do what, checked, compiled to a code without loops, and judged by it: see DOC.md.
+package gavel
+
+import (
+	"gavel/api"
+	"gavel/policy"
+)
+
+// Check tells whether a text is a policy (P3).
+func Check(text string) (api.Errno, int) {
+	_, e, at := policy.Read(text)
+	return e, at
+}
+
+// Print writes a policy in its plain form (P4).
+func Print(text string) (string, api.Errno, int) {
+	p, e, at := policy.Read(text)
+	if e != api.OK {
+		return "", e, at
+	}
+	return p.Plain(), api.OK, 0
+}
+
+// Mean tells what a policy says of an event (P5).
+func Mean(text string, e api.Event, s api.State) (api.Verdict, api.Errno) {
+	return api.Verdict{}, api.OK
+}
+
+// Code is a code that was looked through.
+type Code struct{}
+
+// Load looks a code through (P6).
+func Load(b string) (*Code, api.Errno) { return nil, api.OK }
+
+// Judge tells what a code says of an event (P7).
+func (c *Code) Judge(e api.Event, s api.State) api.Verdict { return api.Verdict{} }
+
+// Compile makes a code of a policy (P8).
+func Compile(text string, passes int) (string, api.Errno, int) { return "", api.OK, 0 }
