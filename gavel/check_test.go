@@ -13,7 +13,7 @@ type refusal struct {
 	at   int
 }
 
-// refused asks both calls, as Print has the error and place of Check.
+// refused asks Print too, which has the error and place of Check, and Mean, which has its error.
 func refused(t *testing.T, cases []refusal) {
 	t.Helper()
 	for _, c := range cases {
@@ -22,6 +22,9 @@ func refused(t *testing.T, cases []refusal) {
 		}
 		if s, e, at := Print(c.text); s != "" || e != c.e || at != c.at {
 			t.Errorf("Print(%.90q) = %q, %d, %d, want nothing, %d, %d", c.text, s, e, at, c.e, c.at)
+		}
+		if v, e := Mean(c.text, api.Event{}, api.State{}); v != (api.Verdict{}) || e != c.e {
+			t.Errorf("Mean(%.90q) = %+v, %d, want nothing, %d", c.text, v, e, c.e)
 		}
 	}
 }

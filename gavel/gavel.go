@@ -4,6 +4,7 @@ package gavel
 import (
 	"gavel/api"
 	"gavel/policy"
+	"gavel/values"
 )
 
 // Check tells whether a text is a policy (P3).
@@ -23,7 +24,11 @@ func Print(text string) (string, api.Errno, int) {
 
 // Mean tells what a policy says of an event (P5).
 func Mean(text string, e api.Event, s api.State) (api.Verdict, api.Errno) {
-	return api.Verdict{}, api.OK
+	p, wrong, _ := policy.Read(text)
+	if wrong != api.OK {
+		return api.Verdict{}, wrong
+	}
+	return p.Mean(values.FieldsOf(e, s)), api.OK
 }
 
 // Code is a code that was looked through.

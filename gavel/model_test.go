@@ -267,6 +267,10 @@ func TestP1AnyBytes(t *testing.T) {
 		if e < api.OK || e > api.ErrType || at < 0 || at > len(text) || e == api.OK && at != 0 || e != api.OK && s != "" {
 			t.Fatalf("Print(%q) = %q, %d, %d", text, s, e, at)
 		}
+		event, state := m.event()
+		if v, e2 := Mean(text, event, state); e2 != e || e != api.OK && v != (api.Verdict{}) || v.Steps != 0 {
+			t.Fatalf("Mean(%q) = %+v, %d, Check has %d", text, v, e2, e)
+		}
 	}
 	for range 6000 {
 		b := []byte(m.policy(1+m.Intn(3), 1+m.Intn(4)).text)

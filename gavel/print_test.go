@@ -56,18 +56,24 @@ func TestP4LongPlain(t *testing.T) {
 
 // What was asked before, or is asked at the same time, changes no answer.
 func TestP2NothingKept(t *testing.T) {
-	texts := []string{"let a = 1; allow if a = 1;", "allow if a;", "allow if self", "$", "let b = self; deny if b;", ""}
+	event, room := api.Event{Sender: "ann", Target: "ann"}, hall()
+	texts := []string{"let a = 1; allow if a = 1;", "let a = 2; allow if a = 1;", "allow if a;", "allow if self", "$", "let b = self; deny if b;", ""}
 	type answer struct {
 		s  string
 		e  api.Errno
 		at int
+		v  api.Verdict
 	}
 	ask := func(text string) answer {
 		s, e, at := Print(text)
 		if e2, at2 := Check(text); e2 != e || at2 != at {
 			t.Errorf("Check(%q) = %d, %d, Print has %d, %d", text, e2, at2, e, at)
 		}
-		return answer{s, e, at}
+		v, e2 := Mean(text, event, room)
+		if e2 != e {
+			t.Errorf("Mean(%q) has the error %d, Print %d", text, e2, e)
+		}
+		return answer{s, e, at, v}
 	}
 	var first []answer
 	for _, text := range texts {

@@ -1,5 +1,5 @@
-// Package policy reads the text of a policy, checks it, and writes it in its
-// plain form.
+// Package policy reads the text of a policy, checks it, writes it in its plain
+// form, and tells what it says of an event.
 package policy
 
 import (

@@ -75,3 +75,17 @@ func (k Kind) Spelling() string {
 func (k Kind) StandsAlone() bool {
 	return k == Number || k == Own || True <= k && k <= Open
 }
+
+// Member is the number of the member that a word of this kind names, if it does.
+func (k Kind) Member() (int, bool) { return k.within(None, Ban) }
+
+// Field is the number of the field that a word of this kind names, if it does.
+func (k Kind) Field() (int, bool) { return k.within(Level, Open) }
+
+// within is the kind's place in a run of kinds, if it is in it.
+func (k Kind) within(first, last Kind) (int, bool) {
+	if k < first || k > last {
+		return 0, false
+	}
+	return int(k - first), true
+}

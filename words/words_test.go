@@ -1,6 +1,7 @@
 package words
 
 import (
+	"slices"
 	"strings"
 	"testing"
 )
@@ -120,6 +121,29 @@ func TestStandsAlone(t *testing.T) {
 	for k := End; k <= lastKeyword+1; k++ {
 		if k.StandsAlone() != (alone[k] == 1) {
 			t.Errorf("kind %d (%q) stands alone: %v", k, k.Spelling(), k.StandsAlone())
+		}
+	}
+}
+
+func TestMembersAndFields(t *testing.T) {
+	for _, c := range []struct {
+		text string
+		of   func(Kind) (int, bool)
+	}{
+		{"none invite join leave ban", Kind.Member},
+		{"level rank need when sender target wants self open", Kind.Field},
+	} {
+		list, _, _ := Split(c.text)
+		run := kinds(list[:len(list)-1])
+		for i, k := range run {
+			if n, ok := c.of(k); n != i || !ok {
+				t.Errorf("%q has the number %d, %v, want %d", k.Spelling(), n, ok, i)
+			}
+		}
+		for k := End - 1; k <= lastKeyword+1; k++ {
+			if n, ok := c.of(k); !ok && n != 0 || ok != slices.Contains(run, k) {
+				t.Errorf("kind %d (%q) has the number %d, %v", k, k.Spelling(), n, ok)
+			}
 		}
 	}
 }
