@@ -3,6 +3,8 @@ package gavel
 
 import (
 	"gavel/api"
+	"gavel/code"
+	"gavel/machine"
 	"gavel/policy"
 	"gavel/values"
 )
@@ -32,13 +34,27 @@ func Mean(text string, e api.Event, s api.State) (api.Verdict, api.Errno) {
 }
 
 // Code is a code that was looked through.
-type Code struct{}
+type Code struct {
+	loaded *code.Code
+}
 
 // Load looks a code through (P6).
-func Load(b string) (*Code, api.Errno) { return nil, api.OK }
+func Load(b string) (*Code, api.Errno) {
+	c, ok := code.Load(b)
+	if !ok {
+		return nil, api.ErrCode
+	}
+	return &Code{c}, api.OK
+}
 
-// Judge tells what a code says of an event (P7).
-func (c *Code) Judge(e api.Event, s api.State) api.Verdict { return api.Verdict{} }
+// Judge tells what a code says of an event (P7). One that Load did not give
+// says nothing.
+func (c *Code) Judge(e api.Event, s api.State) api.Verdict {
+	if c == nil || c.loaded == nil {
+		return api.Verdict{}
+	}
+	return machine.Judge(c.loaded, values.FieldsOf(e, s))
+}
 
 // Compile makes a code of a policy (P8).
 func Compile(text string, passes int) (string, api.Errno, int) { return "", api.OK, 0 }

@@ -43,14 +43,17 @@ func (c *Cond) typeOf(lets []types.Type) types.Type {
 }
 
 func typeOfWord(kind words.Kind) types.Type {
-	switch kind {
-	case words.Number, words.Level, words.Rank, words.Need, words.When:
-		return types.Number
-	case words.True, words.False, words.Self, words.Open:
-		return types.Truth
-	case words.None, words.Invite, words.Join, words.Leave, words.Ban,
-		words.Sender, words.Target, words.Wants:
+	if field, ok := kind.Field(); ok {
+		return types.OfField(field)
+	}
+	if _, ok := kind.Member(); ok {
 		return types.Member
+	}
+	switch kind {
+	case words.Number:
+		return types.Number
+	case words.True, words.False:
+		return types.Truth
 	}
 	return types.Wrong
 }
