@@ -1,5 +1,5 @@
 // Package code reads the bytes of a code, and looks them through: what passes
-// never goes wrong.
+// never goes wrong. It writes such bytes, too.
 package code
 
 import (
@@ -47,7 +47,7 @@ func read(b string) (*Code, bool) {
 	c := &Code{depth: int(b[1]), Cells: int(b[2])}
 	for at := header; at < len(b); {
 		in := Instruction{Op: int(b[at]), at: at}
-		end := at + 1 + following(in.Op)
+		end := at + in.size()
 		if end > len(b) {
 			return nil, false
 		}
@@ -61,6 +61,11 @@ func read(b string) (*Code, bool) {
 	c.findJumps()
 	return c, true
 }
+
+// size is in bytes, with what follows.
+func (in Instruction) size() int { return 1 + following(in.Op) }
+
+func (in Instruction) jumps() bool { return in.Op == api.Jump || in.Op == api.JumpUnless }
 
 // following is how many bytes follow an instruction.
 func following(op int) int {
@@ -104,11 +109,10 @@ func (c *Code) mayBe(in Instruction) bool {
 func (c *Code) findJumps() {
 	for i := range c.Instructions {
 		in := &c.Instructions[i]
-		if in.Op != api.Jump && in.Op != api.JumpUnless {
+		if !in.jumps() {
 			continue
 		}
-		behind := in.at + 1 + following(in.Op)
-		if to, ok := c.beginning(behind + int(in.Number)); ok {
+		if to, ok := c.beginning(in.at + in.size() + int(in.Number)); ok {
 			in.To = to
 		}
 	}

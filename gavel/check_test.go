@@ -13,7 +13,7 @@ type refusal struct {
 	at   int
 }
 
-// refused asks Print too, which has the error and place of Check, and Mean, which has its error.
+// refused asks Print and Compile too, which have the error and place of Check, and Mean, which has its error.
 func refused(t *testing.T, cases []refusal) {
 	t.Helper()
 	for _, c := range cases {
@@ -25,6 +25,11 @@ func refused(t *testing.T, cases []refusal) {
 		}
 		if v, e := Mean(c.text, api.Event{}, api.State{}); v != (api.Verdict{}) || e != c.e {
 			t.Errorf("Mean(%.90q) = %+v, %d, want nothing, %d", c.text, v, e, c.e)
+		}
+		for _, passes := range []int{0, 15, -1} {
+			if b, e, at := Compile(c.text, passes); b != "" || e != c.e || at != c.at {
+				t.Errorf("Compile(%.90q, %d) = %q, %d, %d, want nothing, %d, %d", c.text, passes, b, e, at, c.e, c.at)
+			}
 		}
 	}
 }

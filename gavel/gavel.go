@@ -4,6 +4,7 @@ package gavel
 import (
 	"gavel/api"
 	"gavel/code"
+	"gavel/compiler"
 	"gavel/machine"
 	"gavel/policy"
 	"gavel/values"
@@ -57,4 +58,10 @@ func (c *Code) Judge(e api.Event, s api.State) api.Verdict {
 }
 
 // Compile makes a code of a policy (P8).
-func Compile(text string, passes int) (string, api.Errno, int) { return "", api.OK, 0 }
+func Compile(text string, passes int) (string, api.Errno, int) {
+	p, e, at := policy.Read(text)
+	if e != api.OK {
+		return "", e, at
+	}
+	return compiler.Compile(p, passes), api.OK, 0
+}

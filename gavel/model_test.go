@@ -271,6 +271,9 @@ func TestP1AnyBytes(t *testing.T) {
 		if v, e2 := Mean(text, event, state); e2 != e || e != api.OK && v != (api.Verdict{}) || v.Steps != 0 {
 			t.Fatalf("Mean(%q) = %+v, %d, Check has %d", text, v, e2, e)
 		}
+		if b, e2, at2 := Compile(text, int(m.Uint64())); e2 != e || at2 != at || (b == "") != (e != api.OK) {
+			t.Fatalf("Compile(%q) = %q, %d, %d, Check has %d, %d", text, b, e2, at2, e, at)
+		}
 	}
 	for range 6000 {
 		b := []byte(m.policy(1+m.Intn(3), 1+m.Intn(4)).text)

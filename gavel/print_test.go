@@ -63,6 +63,7 @@ func TestP2NothingKept(t *testing.T) {
 		e  api.Errno
 		at int
 		v  api.Verdict
+		b  [16]string
 	}
 	ask := func(text string) answer {
 		s, e, at := Print(text)
@@ -73,7 +74,11 @@ func TestP2NothingKept(t *testing.T) {
 		if e2 != e {
 			t.Errorf("Mean(%q) has the error %d, Print %d", text, e2, e)
 		}
-		return answer{s, e, at, v}
+		a := answer{s: s, e: e, at: at, v: v}
+		for passes := range a.b {
+			a.b[passes], _, _ = Compile(text, passes)
+		}
+		return a
 	}
 	var first []answer
 	for _, text := range texts {

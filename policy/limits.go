@@ -8,19 +8,22 @@ import (
 // fit tells whether all items keep to the limits; if not, where the first one
 // is that goes beyond.
 func (p Policy) fit() (int, bool) {
-	lets, rules, parts := 0, 0, 0
+	parts := 0
 	for _, it := range p {
-		if it.Kind == words.Let {
-			lets++
-		} else {
-			rules++
-		}
 		parts += it.Cond.parts()
-		if lets > api.MaxLets || rules > api.MaxRules || parts > api.MaxParts || it.Cond.depth() > api.MaxDepth {
+		if it.beyond() || parts > api.MaxParts || it.Cond.depth() > api.MaxDepth {
 			return it.At, false
 		}
 	}
 	return 0, true
+}
+
+// beyond tells whether there are too many of its kind with this item.
+func (it Item) beyond() bool {
+	if it.Kind == words.Let {
+		return it.Which >= api.MaxLets
+	}
+	return it.Which > api.MaxRules
 }
 
 func (c *Cond) parts() int {

@@ -1,6 +1,8 @@
 package policy
 
 import (
+	"slices"
+
 	"gavel/api"
 	"gavel/values"
 	"gavel/words"
@@ -15,19 +17,31 @@ type teller struct {
 // Mean tells what the policy says of an event that has these fields.
 func (p Policy) Mean(fields values.Fields) api.Verdict {
 	t := &teller{fields: fields}
-	rule := 0
 	for _, it := range p {
 		told := t.tell(it.Cond)
 		if it.Kind == words.Let {
 			t.lets = append(t.lets, told)
 			continue
 		}
-		rule++
 		if told == values.True {
-			return api.Verdict{Allow: it.Kind == words.Allow, Rule: rule}
+			return api.Verdict{Allow: it.Kind == words.Allow, Rule: it.Which}
 		}
 	}
 	return api.Verdict{}
+}
+
+// Fixed is what the condition tells of every event alike; or false, if it has
+// a field or a name, which may tell something else of each.
+func (c *Cond) Fixed() (values.Value, bool) {
+	if c.hangsOnEvent() {
+		return 0, false
+	}
+	return (&teller{}).tell(c), true
+}
+
+func (c *Cond) hangsOnEvent() bool {
+	_, isField := c.Kind.Field()
+	return isField || c.Kind == words.Own || slices.ContainsFunc(c.Under, (*Cond).hangsOnEvent)
 }
 
 func (t *teller) tell(c *Cond) values.Value {

@@ -14,6 +14,7 @@ type Policy []Item
 type Item struct {
 	words.Word
 	Given words.Word // the name that a let gives
+	Which int        // of a let: which of them, from 0 on; of a rule: its number, from 1 on
 	Cond  *Cond
 }
 

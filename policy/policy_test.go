@@ -5,6 +5,7 @@ import (
 
 	"gavel/api"
 	"gavel/types"
+	"gavel/values"
 	"gavel/words"
 )
 
@@ -59,6 +60,32 @@ func TestItemsKeepTheirWords(t *testing.T) {
 	}
 	if p[0].Given.Name != "x" || p[0].Given.At != 5 {
 		t.Errorf("the let gives %v", p[0].Given)
+	}
+}
+
+func TestItemsAreCounted(t *testing.T) {
+	p := read(t, "deny if self; let x = 1; allow if open; let y = 2; let z = 3; deny if open;")
+	for i, want := range []int{1, 0, 2, 1, 2, 3} {
+		if p[i].Which != want {
+			t.Errorf("item %d is number %d of its kind, want %d", i, p[i].Which, want)
+		}
+	}
+}
+
+func TestFixed(t *testing.T) {
+	for text, want := range map[string]values.Value{
+		"7": 7, "true": 1, "false": 0, "none": 0, "ban": 4,
+		"1 - 2": -1, "9223372036854775807 + 1": 9223372036854775807, "not true": 0, "join = join": 1, "1 < 1": 0, "1 <= 1": 1,
+		"true and false": 0, "true or false": 1, "if false then 1 else if true then 2 else 3": 2,
+	} {
+		if told, fixed := read(t, "let a = "+text+";")[0].Cond.Fixed(); told != want || !fixed {
+			t.Errorf("%q tells %d, %v, want %d", text, told, fixed, want)
+		}
+	}
+	for _, text := range []string{"level", "self", "wants", "not open", "1 + need", "need + 1", "true or self", "x", "x = 1", "if true then 1 else x", "if open then 1 else 2"} {
+		if told, fixed := read(t, "let x = 1; let a = "+text+";")[1].Cond.Fixed(); told != 0 || fixed {
+			t.Errorf("%q tells %d, %v", text, told, fixed)
+		}
 	}
 }
 

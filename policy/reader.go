@@ -27,7 +27,22 @@ func parse(list []words.Word) (Policy, int, bool) {
 	if r.failed {
 		return nil, r.place, false
 	}
+	p.count()
 	return p, 0, true
+}
+
+// count tells each item which of its kind it is.
+func (p Policy) count() {
+	lets, rules := 0, 0
+	for i := range p {
+		if p[i].Kind == words.Let {
+			p[i].Which = lets
+			lets++
+		} else {
+			rules++
+			p[i].Which = rules
+		}
+	}
 }
 
 func (r *reader) kind() words.Kind { return r.list[r.next].Kind }
